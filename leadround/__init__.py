@@ -1,0 +1,1 @@
+"""Leadround: rows that go on for ever by a lead and a round."""
