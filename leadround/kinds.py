@@ -1,4 +1,4 @@
-"""What counts as a sign, a place and a row, and the refusals of what does not."""
+"""What counts as a sign, a list of signs, a place, a step and a row, and the refusals of what does not."""
 
 from leadround.errors import BadPlace, BadRow, BadSigns
 
@@ -32,6 +32,16 @@ def check_sign(given):
         raise BadSigns("a sign is a whole number")
 
 
+def check_signs(given):
+    if not is_signs(given):
+        raise BadSigns("signs are a list of whole numbers")
+
+
 def check_place(given):
     if not is_place(given):
         raise BadPlace("a place is a whole number from 0 on")
+
+
+def check_step(given):
+    if not is_place(given) or given == 0:
+        raise BadPlace("a step is a whole number from 1 on")

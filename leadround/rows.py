@@ -40,14 +40,19 @@ def least(row):
     return rolled_back(row[0], gone_once(row[1]))
 
 
-def told_at(row, place):
-    check_row(row)
-    check_place(place)
+def sign_at(row, place):
+    # Without a check, since one of the whole row for each of many places would be slow.
     lead = row[0]
     circle = row[1]
     if place < len(lead):
         return lead[place]
     return circle[(place - len(lead)) % len(circle)]
+
+
+def told_at(row, place):
+    check_row(row)
+    check_place(place)
+    return sign_at(row, place)
 
 
 def begin(row, many):

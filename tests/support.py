@@ -4,6 +4,9 @@ from itertools import product
 
 HUGE = 10 ** 30
 
+# Rows with leads up to 3 and rounds up to 4 that are alike so far are alike for ever (3 + 4 * 3 and more).
+FAR = 40
+
 
 class Odd:
     """A value of a kind that the program has never heard of, which answers no comparison."""
@@ -34,6 +37,33 @@ def signs_of(row, many):
     while len(signs) < many:
         signs.extend(circle)
     return signs[:many]
+
+
+def sign_of(row, place):
+    """The sign at one place, however far."""
+    lead, circle = row
+    return lead[place] if place < len(lead) else circle[(place - len(lead)) % len(circle)]
+
+
+def plain_unlike(one, other):
+    """The first unlike place, sought among far more signs than small rows need; None if there is none."""
+    pairs = zip(signs_of(one, FAR), signs_of(other, FAR))
+    return next((place for place, (left, right) in enumerate(pairs) if left != right), None)
+
+
+def plain_stand(row, word):
+    """The first place of a word, sought among far more signs than small rows need; None if there is none."""
+    signs = signs_of(row, FAR)
+    starts = range(FAR - len(word) + 1)
+    return next((place for place in starts if signs[place:place + len(word)] == word), None)
+
+
+def is_least(row):
+    """Whether a telling is least, tried out: no shorter round goes as it does, and the lead's end is no round's end."""
+    lead, circle = row
+    many = len(circle)
+    shorter = [step for step in range(1, many) if many % step == 0 and circle[:step] * (many // step) == circle]
+    return shorter == [] and (lead == [] or lead[-1] != circle[-1])
 
 
 NO_WHOLE_NUMBERS = [None, True, False, 1.0, float("nan"), 0.5, 1j, "1", "", b"1", [], [1], (), (1,), {}, {1: 1},

@@ -3,22 +3,9 @@ import unittest
 
 from leadround.answers import Alike, Answer, Never, Stands, Unlike
 from leadround.rows import least
-from tests.support import HUGE, signs_of, tellings, words
+from tests.support import HUGE, plain_stand, plain_unlike, tellings, words
 
-FAR = 40
 SMALL = tellings([0, 1], 2, 3)
-
-
-def plain_unlike(one, other):
-    """The first unlike place, sought among far more signs than small rows need; None if there is none."""
-    pairs = zip(signs_of(one, FAR), signs_of(other, FAR))
-    return next((place for place, (left, right) in enumerate(pairs) if left != right), None)
-
-
-def plain_stand(row, word):
-    signs = signs_of(row, FAR)
-    starts = range(FAR - len(word) + 1)
-    return next((place for place in starts if signs[place:place + len(word)] == word), None)
 
 
 class Shapes(unittest.TestCase):

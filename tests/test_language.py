@@ -92,6 +92,45 @@ class Language(unittest.TestCase):
             used = {node.id for node in ast.walk(tree) if isinstance(node, ast.Name)}
             self.assertEqual(used - bound - set(BUILTINS), set(), file)
 
+    def test_each_name_is_bound_once_at_the_top(self):
+        for file, text, tree in parsed():
+            tops = [node.name for node in tree.body if isinstance(node, (ast.FunctionDef, ast.ClassDef))]
+            tops += [name.name for node in tree.body if isinstance(node, ast.ImportFrom) for name in node.names]
+            self.assertEqual(len(tops), len(set(tops)), file)
+            for node in tree.body:
+                if isinstance(node, ast.FunctionDef):
+                    self.assertEqual(names_bound(node) & set(tops), {node.name}, (file, node.name))
+
+    def test_no_two_files_draw_from_one_another(self):
+        drawn = {}
+        for file, text, tree in parsed():
+            modules = [node.module for node in ast.walk(tree) if isinstance(node, ast.ImportFrom)]
+            drawn[file] = {module.split(".")[1] + ".py" for module in modules}
+        while drawn:
+            ends = [file for file in drawn if not drawn[file]]
+            self.assertNotEqual(ends, [], drawn)
+            drawn = {file: drawn[file] - set(ends) for file in drawn if file not in ends}
+
+    def test_narrow_forms(self):
+        for file, text, tree in parsed():
+            for node in ast.walk(tree):
+                if isinstance(node, ast.BinOp) and isinstance(node.op, ast.Pow):
+                    self.assertIn(getattr(node.right, "value", None), range(65), file)
+                if isinstance(node, ast.Assign):
+                    self.assertEqual(len(node.targets), 1, file)
+                    self.assertNotIsInstance(node.targets[0], (ast.Tuple, ast.List), file)
+                if isinstance(node, ast.Compare) and isinstance(node.ops[0], (ast.Is, ast.IsNot)):
+                    self.assertIn(ast.unparse(node.comparators[0]), ["None", "True", "False"], file)
+                if isinstance(node, ast.ListComp):
+                    self.assertEqual(len(node.generators), 1, file)
+                    self.assertLessEqual(len(node.generators[0].ifs), 1, file)
+                if isinstance(node, ast.FormattedValue):
+                    self.assertIsInstance(node.value, ast.Name, file)
+                    self.assertIsNone(node.format_spec, file)
+                if isinstance(node, ast.Constant):
+                    self.assertIn(type(node.value), [int, str, bool, type(None)], file)
+                    self.assertNotIn("%", str(node.value), file)
+
     def test_methods(self):
         own = set()
         for file, text, tree in parsed():

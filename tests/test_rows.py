@@ -3,10 +3,7 @@ import unittest
 
 from leadround.errors import BadPlace, BadRow, BadSigns
 from leadround.rows import begin, least, often, told_at
-from tests.support import HUGE, NO_PLACES, NO_WHOLE_NUMBERS, signs_of, tellings, words, wrong_rows
-
-# Leads up to 3 and rounds up to 4: signs that are alike so far are alike for ever (3 + 4 * 3 and more).
-FAR = 40
+from tests.support import FAR, HUGE, NO_PLACES, NO_WHOLE_NUMBERS, signs_of, tellings, words, wrong_rows
 
 
 def by_signs(rows):
